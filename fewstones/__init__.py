@@ -1,0 +1,1 @@
+"""Fewstones: loads laid with few stones on two pans."""
