@@ -20,6 +20,11 @@ def check_laying(thing):
         raise NoLaying("a laying is a list of whole numbers, each of them 1, 0 or -1")
 
 
+def check_load(thing):
+    if not is_whole(thing):
+        raise NoLoad("a load is a whole number")
+
+
 def load_of(laying):
     check_laying(laying)
     load = 0
@@ -58,8 +63,7 @@ def lowest_thing(load):
 
 
 def laid(load):
-    if not is_whole(load):
-        raise NoLoad("a load is a whole number")
+    check_load(load)
     laying = []
     rest = load
     while rest != 0:

@@ -1,6 +1,7 @@
 """The package's form: no clock, chance or files [1], and the plainest rules of the language it keeps to."""
 
 import ast
+import builtins
 import pathlib
 import re
 import unittest
@@ -18,6 +19,14 @@ OUT = (ast.With, ast.Match, ast.Delete, ast.Global, ast.Nonlocal, ast.Assert, as
 WORDS_OUT = re.compile(r"\b(type|typing|typing_extensions|enum|Enum|IntEnum|StrEnum|Flag|IntFlag|Generic|Protocol|ABC"
                        r"|ABCMeta|namedtuple|NamedTuple|TypedDict|TYPE_CHECKING|abstractmethod)\b"
                        r"|dataclass|overload|contextmanager")
+
+
+METHODS = set("""append clear copy count endswith extend find get index insert isalnum isalpha isdigit islower isspace
+isupper items join keys ljust lower lstrip partition pop remove replace reverse rfind rjust rpartition rsplit rstrip
+setdefault split splitlines startswith strip update upper values zfill bit_length""".split())
+
+NAMES_OUT = set("""register mro elements open input version_info with_traceback add_note format format_map
+sort args encode""".split())
 
 
 def sources():
@@ -47,9 +56,33 @@ def names_bound(tree):
     return bound
 
 
+def top_names(tree):
+    found = []
+    for node in tree.body:
+        if isinstance(node, (ast.FunctionDef, ast.ClassDef)):
+            found.append(node.name)
+        elif isinstance(node, ast.ImportFrom):
+            found += [alias.asname or alias.name for alias in node.names]
+        elif isinstance(node, ast.Assign):
+            found.append(node.targets[0].id)
+    return found
+
+
+def own_attributes():
+    """The methods and values of the package's own classes."""
+    found = set()
+    for _, _, node in walked():
+        if isinstance(node, ast.ClassDef):
+            found |= {part.name for part in node.body if isinstance(part, ast.FunctionDef)}
+        elif isinstance(node, ast.Attribute) and isinstance(node.ctx, ast.Store):
+            found.add(node.attr)
+    return found
+
+
 class Form(unittest.TestCase):
     def test_there_are_files(self):
-        self.assertLessEqual({"__init__.py", "errors.py", "layings.py", "sums.py"}, {name for name, _ in sources()})
+        self.assertLessEqual({"__init__.py", "errors.py", "layings.py", "sums.py", "plans.py", "notes.py", "scale.py"},
+                             {name for name, _ in sources()})
 
     def test_nothing_else_lies_there(self):
         for path in PACKAGE.iterdir():
@@ -85,6 +118,57 @@ class Form(unittest.TestCase):
             if isinstance(node, ast.FunctionDef):
                 self.assertLessEqual(node.end_lineno - node.lineno + 1, 40, where)
                 self.assertEqual(node.decorator_list, [], where)
+
+    def test_names_are_plain(self):
+        for where, tree, _ in walked():
+            for name in names_bound(tree) - {"__init__"}:
+                self.assertRegex(name, r"\A[A-Za-z][A-Za-z0-9_]*\Z", where)
+                self.assertNotIn(name, NAMES_OUT, where)
+                self.assertFalse(hasattr(builtins, name), where)
+
+    def test_each_name_of_a_top_is_bound_once(self):
+        for name, source in sources():
+            found = top_names(ast.parse(source))
+            self.assertEqual(len(found), len(set(found)), name)
+
+    def test_attributes(self):
+        own = own_attributes()
+        self.assertEqual(own & NAMES_OUT, set())
+        for where, _, node in walked():
+            if isinstance(node, ast.Attribute):
+                self.assertIn(node.attr, METHODS | own, where)
+
+    def test_imports_draw_from_the_file_that_defines_the_name_and_never_in_a_ring(self):
+        trees = {f"fewstones.{name[:-3]}": ast.parse(source) for name, source in sources()}
+        drawn = {}
+        for module, tree in trees.items():
+            rows = [node for node in tree.body if isinstance(node, ast.ImportFrom)]
+            drawn[module] = {row.module for row in rows}
+            for row in rows:
+                defined = {node.name for node in trees[row.module].body
+                           if isinstance(node, (ast.FunctionDef, ast.ClassDef))}
+                self.assertLessEqual({alias.name for alias in row.names}, defined, module)
+        while drawn:
+            free = [module for module, others in drawn.items() if not others & set(drawn)]
+            self.assertNotEqual(free, [], drawn)
+            for module in free:
+                drawn.pop(module)
+
+    def test_statements(self):
+        for where, _, node in walked():
+            if isinstance(node, (ast.For, ast.While)):
+                self.assertEqual(node.orelse, [], where)
+            elif isinstance(node, ast.Try):
+                self.assertEqual(node.finalbody, [], where)
+            elif isinstance(node, ast.Assign):
+                self.assertEqual(len(node.targets), 1, where)
+            elif isinstance(node, ast.Compare) and any(isinstance(sign, (ast.Is, ast.IsNot)) for sign in node.ops):
+                self.assertTrue(all(isinstance(side, ast.Constant) for side in node.comparators), where)
+
+    def test_texts(self):
+        for where, _, node in walked():
+            if isinstance(node, ast.Constant) and isinstance(node.value, str):
+                self.assertNotIn("%", node.value, where)
 
     def test_no_power_but_a_written_one(self):
         for where, _, node in walked():

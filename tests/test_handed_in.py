@@ -4,9 +4,9 @@ import copy
 import inspect
 import unittest
 
-from fewstones import layings, sums
-from fewstones.errors import NoLaying
-from tests.samples import few_layings, mixed, no_layings
+from fewstones import layings, notes, plans, scale, sums
+from fewstones.errors import NoLaying, NoPlan
+from tests.samples import few_layings, loads, long_plans, mixed, no_layings, plan_told, some_plans
 
 ASKED_OF_ONE = {
     "load_of": layings.load_of,
@@ -29,6 +29,7 @@ ASKED_OF_ONE = {
     "parted, 1": lambda laying: sums.parted(laying, 1),
     "parted, 2": lambda laying: sums.parted(laying, 2),
     "parted, 400": lambda laying: sums.parted(laying, 400),
+    "shown": notes.shown,
 }
 
 LISTS_TOLD = {
@@ -45,7 +46,21 @@ LISTS_TOLD = {
     "empty lower part": lambda laying: sums.parted(laying, 0)[1],
     "upper part within": lambda laying: sums.parted(laying, 2)[0],
     "lower part within": lambda laying: sums.parted(laying, 2)[1],
+    "read": lambda laying: notes.read(notes.shown(laying)),
+    "pans": lambda laying: loaded(layings.load_of(laying)).pans(),
 }
+
+ASKED_OF_A_PLAN = {
+    "walked": plans.walked,
+    "walked with 3": lambda plan: plans.walked(plan, 3),
+    "cost": plans.cost,
+}
+
+
+def loaded(load):
+    one = scale.Scale()
+    one.lay(load)
+    return one
 
 
 def asked():
@@ -172,6 +187,77 @@ class Told(unittest.TestCase):
         self.assertEqual(laying, [1, 1, 0])
 
 
+class PlansHandedIn(unittest.TestCase):
+    def test_stay_as_they_were(self):
+        for name, ask in ASKED_OF_A_PLAN.items():
+            for plan in some_plans():
+                handed_in = list(plan)
+                ask(handed_in)
+                self.assertEqual(handed_in, plan, name)
+
+    def test_changed_behind_a_call_they_are_told_anew(self):
+        for name, ask in ASKED_OF_A_PLAN.items():
+            plan = ["put", "double", "take"]
+            ask(plan)
+            for changed in ([], ["take"], ["double", "put", "put"], ["put"] * 9, ["take", "double"]):
+                plan[:] = changed
+                with self.subTest(asked=name, changed=changed):
+                    self.assertEqual(ask(plan), ask(list(changed)))
+
+    def test_changed_into_no_plan_they_are_refused(self):
+        for name, ask in ASKED_OF_A_PLAN.items():
+            plan = ["put", "double", "take"]
+            ask(plan)
+            plan[1] = "Double"
+            with self.subTest(asked=name):
+                with self.assertRaises(NoPlan):
+                    ask(plan)
+                self.assertEqual(plan, ["put", "Double", "take"])
+                plan[1] = "double"
+                self.assertEqual(ask(plan), ask(["put", "double", "take"]))
+
+
+class PlansTold(unittest.TestCase):
+    def test_a_list_of_its_own(self):
+        for load in loads():
+            told = plans.plan_of(load)
+            self.assertIsNot(told, plans.plan_of(load))
+            told.append("put")
+            told[0] = "x"
+            self.assertEqual(plans.plan_of(load), plan_told(load))
+
+    def test_nothing_asked_later_changes_it(self):
+        told = [plans.plan_of(load) for load in (0, 1, -3, 77, 10 ** 100)]
+        as_told = [list(plan) for plan in told]
+        for load in loads():
+            plans.plan_of(load)
+        for plan in told:
+            plans.walked(plan, 5)
+            plans.cost(plan)
+        self.assertEqual(told, as_told)
+
+
+class WholeProgram(unittest.TestCase):
+    def test_plans_cost_as_much_as_neat_layings_have_stones(self):
+        for load in loads():
+            laying = layings.laid(load)
+            plan = plans.plan_of(load)
+            self.assertEqual(plans.cost(plan), layings.stones(laying))
+            self.assertEqual(plans.walked(plan), layings.load_of(laying))
+
+    def test_no_laying_of_the_load_has_fewer_stones_than_its_plan_costs(self):
+        for laying in few_layings():
+            self.assertLessEqual(plans.cost(plans.plan_of(layings.load_of(laying))), layings.stones(laying))
+
+    def test_all_that_is_told_of_one_load_agrees(self):
+        for load in loads():
+            laying = layings.laid(load)
+            self.assertEqual(loaded(load).pans(), laying)
+            self.assertEqual(loaded(load).weighs(), layings.load_of(laying))
+            self.assertEqual(notes.read(notes.shown(laying)), laying)
+            self.assertEqual(scale.Scale().lay(load), layings.stones(laying))
+
+
 class Bounds(unittest.TestCase):
     def test_longer_layings_are_not_refused(self):
         for laying in ([0] * 401, [1] * 401, [1, 0] * 210, mixed(420, 9)):
@@ -182,6 +268,32 @@ class Bounds(unittest.TestCase):
     def test_greater_loads_are_not_refused(self):
         for load in (10 ** 100 + 1, -(10 ** 100) - 1, 10 ** 101, -(10 ** 101)):
             layings.laid(load)
+            self.assertEqual(plans.walked(plans.plan_of(load)), load)
+            self.assertEqual(plans.walked(["take", "double"], load), -2 * load)
+            self.assertEqual(loaded(load).weighs(), load)
+
+    def test_longer_plans_are_not_refused(self):
+        for plan in (["put"] * 1001, ["double"] * 1100, ["put", "double"] * 600):
+            self.assertEqual(plans.cost(plan), plan.count("put"))
+            plans.walked(plan)
+
+    def test_longer_texts_are_not_refused(self):
+        for text in ("+" * 401, "-" + "0" * 420):
+            self.assertEqual(notes.shown(notes.read(text)), text)
+
+    def test_what_is_told_may_be_longer_and_greater(self):
+        self.assertEqual(plans.walked(long_plans()[2], 10 ** 100), 2 ** 999 * 10 ** 100)
+        self.assertEqual(len(sums.neat([1] * 400)), 401)
+        self.assertEqual(notes.shown(sums.neat([1] * 400)), "+" + "0" * 399 + "-")
+
+    def test_more_deeds_and_a_greater_load_are_not_refused(self):
+        one = scale.Scale()
+        for _ in range(220):
+            one.lay(10 ** 100)
+        self.assertEqual(one.weighs(), 220 * 10 ** 100)
+        for _ in range(220):
+            one.back()
+        self.assertEqual(one.weighs(), 0)
 
 
 class Interface(unittest.TestCase):
@@ -191,6 +303,10 @@ class Interface(unittest.TestCase):
                       "is_neat": ["laying"], "laid": ["load"]},
             sums: {"neat": ["laying"], "turned": ["laying"], "plus": ["one", "other"],
                    "heavier": ["one", "other"], "parted": ["laying", "place"]},
+            plans: {"plan_of": ["load"], "walked": ["plan", "number"], "cost": ["plan"]},
+            notes: {"shown": ["laying"], "read": ["text"]},
+            scale: {"Scale": []},
+            scale.Scale(): {"lay": ["load"], "back": [], "pans": [], "weighs": []},
         }
         for module, names in wanted.items():
             for name, arguments in names.items():
@@ -203,6 +319,16 @@ class Interface(unittest.TestCase):
         self.assertEqual(sums.heavier(other=[1], one=[0, 1]), 1)
         self.assertEqual(sums.parted(place=1, laying=[1, 0, -1]), ([0, -1], [1]))
         self.assertEqual(layings.laid(load=3), [-1, 0, 1])
+        self.assertEqual(plans.plan_of(load=2), ["put", "double"])
+        self.assertEqual(plans.walked(number=5, plan=["put", "double"]), 10)
+        self.assertEqual(plans.walked(plan=["put", "double"]), 2)
+        self.assertEqual(plans.cost(plan=["put", "double"]), 1)
+        self.assertEqual(notes.shown(laying=[1, 1]), "++")
+        self.assertEqual(notes.read(text="++"), [1, 1])
+        self.assertEqual(scale.Scale().lay(load=3), 2)
+
+    def test_the_number_left_out(self):
+        self.assertEqual(inspect.signature(plans.walked).parameters["number"].default, 1)
 
 
 if __name__ == "__main__":
