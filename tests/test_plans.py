@@ -92,7 +92,7 @@ class PlanOf(unittest.TestCase):
         # Whatever their order, so many puts and takes come to a sum of so many weights of either sign.
         weights = [sign * 2 ** exponent for exponent in range(15) for sign in (1, -1)]
         cheap = {0}
-        for price in range(5):
+        for price in range(6):
             for load in range(-1200, 1201):
                 if cost_told(plan_of(load)) > price:
                     self.assertNotIn(load, cheap)
